@@ -1,0 +1,1 @@
+"""Signtown: one-way signs after which everybody still comes everywhere."""

@@ -1,0 +1,79 @@
+"""The head of the interface: each listed name exists, and is defined where it is listed."""
+
+import importlib
+import inspect
+import os
+import unittest
+
+from values import Case
+
+FOLDER = os.path.join(os.path.dirname(os.path.dirname(os.path.abspath(__file__))), "signtown")
+
+NAMES = {
+    "errors": {
+        "TownError": None, "BadInput": None, "Refused": None, "NoAnswer": None, "Barred": ["weights"],
+        "BadName": ["value"], "BadPrice": ["value"], "BadNeed": ["value"], "BadStreet": ["part"],
+        "BadTown": ["part"], "BadWard": ["part"], "BadSigns": ["part"], "BadWeights": ["part"],
+        "BadText": ["line", "word"], "BadLine": ["word"], "NoCorner": ["name"], "NoStreet": ["name"],
+        "NoRoad": ["name"], "NoSign": ["name"], "NotAlong": ["name"], "Level": ["corner"], "Unlike": ["part"],
+        "TooMany": ["what", "most"], "NotGood": ["need"], "Empty": None, "NoSigns": None, "NoDeed": None,
+    },
+    "names": {"is_name": ["value"], "need_name": ["value"], "is_price": ["value"], "is_need": ["value"]},
+    "streets": {
+        "Street": None, "Settled": None, "Even": None, "Lane": ["name", "start", "goal"],
+        "Avenue": ["name", "one", "other"], "Road": ["name", "one", "other", "there", "back"],
+    },
+}
+
+STREET_METHODS = {
+    "__contains__": ["self", "corner"], "far": ["self", "corner"], "leads": ["self", "goal"], "__invert__": ["self"],
+    "renamed": ["self", "name"], "opened": ["self"], "__eq__": ["self", "other"], "__str__": ["self"],
+}
+ROAD_METHODS = {"price": ["self", "goal"], "signed": ["self", "goal"], "priced": ["self", "there", "back"]}
+
+
+def module_named(name):
+    return importlib.import_module(f"signtown.{name}")
+
+
+def parameters(callable_thing):
+    return list(inspect.signature(callable_thing).parameters)
+
+
+class InterfaceTest(Case):
+    def test_names_are_defined_where_they_are_listed(self):
+        for file, names in NAMES.items():
+            for name, wanted in names.items():
+                found = getattr(module_named(file), name)
+                self.assertEqual(f"signtown.{file}", found.__module__)
+                if wanted is not None:
+                    self.assertEqual(wanted, parameters(found), name)
+
+    def test_methods_of_streets_are_defined_in_their_classes(self):
+        streets = module_named("streets")
+        for kind in (streets.Street, streets.Lane, streets.Avenue, streets.Road):
+            for name, wanted in STREET_METHODS.items():
+                self.assertEqual(wanted, parameters(vars(kind)[name]), (kind, name))
+            self.assertIsInstance(vars(kind)["ends"], property)
+        for name, wanted in ROAD_METHODS.items():
+            self.assertEqual(wanted, parameters(vars(streets.Road)[name]), name)
+
+    def test_read_is_a_class_method_of_each_class(self):
+        streets = module_named("streets")
+        for name in NAMES["streets"]:
+            kind = getattr(streets, name)
+            self.assertIsInstance(vars(kind)["read"], classmethod, name)
+            self.assertEqual(["text"], parameters(kind.read))
+
+    def test_default_prices(self):
+        made = inspect.signature(module_named("streets").Road).parameters
+        self.assertEqual([0, 0], [made["there"].default, made["back"].default])
+
+    def test_the_package_is_one_folder_of_plain_files(self):
+        files = [name for name in os.listdir(FOLDER) if name != "__pycache__"]
+        self.assertEqual([], [name for name in files if not name.endswith(".py")])
+        self.assertIn("__init__.py", files)
+
+
+if __name__ == "__main__":
+    unittest.main()
