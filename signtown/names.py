@@ -21,6 +21,11 @@ def need_name(value):
         raise BadName(value)
 
 
+def ascending(names):
+    """The tuple of the names, in order and without duplicates."""
+    return tuple(sorted(set(names)))
+
+
 def is_integer(value):
     """Whether any value is an int that is not a bool."""
     return isinstance(value, int) and not isinstance(value, bool)

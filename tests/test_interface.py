@@ -23,6 +23,13 @@ NAMES = {
         "Street": None, "Settled": None, "Even": None, "Lane": ["name", "start", "goal"],
         "Avenue": ["name", "one", "other"], "Road": ["name", "one", "other", "there", "back"],
     },
+    "wards": {"Ward": ["corners"]},
+    "towns": {"Town": ["streets"]},
+    "signs": {"Signs": ["parts"]},
+    "leads": {
+        "into": ["town", "signs", "ward"], "settled_into": ["town", "ward"], "within": ["town", "ward"],
+        "in_counts": ["town", "signs"], "into_by_counts": ["town", "counts", "ward"],
+    },
 }
 
 STREET_METHODS = {
@@ -31,9 +38,45 @@ STREET_METHODS = {
 }
 ROAD_METHODS = {"price": ["self", "goal"], "signed": ["self", "goal"], "priced": ["self", "there", "back"]}
 
+# Of each class its plain methods with their parameters, and its operators.
+METHODS = {
+    ("wards", "Ward"): {"rest": ["town"], "is_of": ["town"], "crosses": ["other", "town"]},
+    ("towns", "Town"): {
+        "shut": ["names"], "opened": ["names"], "priced": ["name", "there", "back"], "settled": ["signs"],
+        "renamed": ["corners"], "wards": [],
+    },
+    ("signs", "Signs"): {
+        "tail": ["name"], "turned": ["names"], "fits": ["town"], "price": ["town"], "__call__": ["corner"],
+    },
+}
+OPERATORS = {
+    ("wards", "Ward"): ["len", "contains", "iter", "or", "and", "sub", "le", "lt", "eq", "str"],
+    ("towns", "Town"): [
+        "getitem", "contains", "len", "iter", "or", "sub", "and", "le", "invert", "eq", "bool",
+    ],
+    ("signs", "Signs"): [
+        "getitem", "contains", "len", "iter", "or", "and", "le", "sub", "invert", "call", "eq", "bool",
+    ],
+}
+PROPERTIES = {
+    ("wards", "Ward"): ["corners"],
+    ("towns", "Town"): ["streets", "names", "corners", "roads", "is_plain"],
+    ("signs", "Signs"): ["names", "parts"],
+}
+# Of each class its static and class methods.
+MADE_BY = {
+    ("wards", "Ward"): {"read": (classmethod, ["text"])},
+    ("signs", "Signs"): {"cheap": (classmethod, ["town"]), "none": (staticmethod, [])},
+}
+
 
 def module_named(name):
     return importlib.import_module(f"signtown.{name}")
+
+
+def class_named(place):
+    file, name = place
+    return getattr(module_named(file), name)
 
 
 def parameters(callable_thing):
@@ -64,6 +107,33 @@ class InterfaceTest(Case):
             kind = getattr(streets, name)
             self.assertIsInstance(vars(kind)["read"], classmethod, name)
             self.assertEqual(["text"], parameters(kind.read))
+
+    def test_methods_are_defined_in_their_classes(self):
+        for place, methods in METHODS.items():
+            for name, wanted in methods.items():
+                self.assertEqual(["self", *wanted], parameters(vars(class_named(place))[name]), (place, name))
+
+    def test_operators_are_defined_in_their_classes(self):
+        for place, names in OPERATORS.items():
+            for name in names:
+                self.assertIn(f"__{name}__", vars(class_named(place)))
+
+    def test_properties_are_defined_in_their_classes(self):
+        for place, names in PROPERTIES.items():
+            for name in names:
+                self.assertIsInstance(vars(class_named(place))[name], property, (place, name))
+
+    def test_static_and_class_methods_are_defined_in_their_classes(self):
+        for place, methods in MADE_BY.items():
+            for name, (kind, wanted) in methods.items():
+                self.assertIsInstance(vars(class_named(place))[name], kind, (place, name))
+                self.assertEqual(wanted, parameters(getattr(class_named(place), name)), (place, name))
+
+    def test_other_prices_are_passed_by_name(self):
+        made = inspect.signature(class_named(("towns", "Town")).priced).parameters
+        for name in ("there", "back"):
+            self.assertIs(inspect.Parameter.KEYWORD_ONLY, made[name].kind)
+            self.assertIsNone(made[name].default)
 
     def test_default_prices(self):
         made = inspect.signature(module_named("streets").Road).parameters

@@ -7,18 +7,6 @@ from values import Case, all_values
 
 
 class EqualTest(Case):
-    def check_equal(self, one, other):
-        self.assertIs(True, one == other)
-        self.assertIs(True, other == one)
-        self.assertIs(False, one != other)
-        self.assertIs(False, other != one)
-
-    def check_unlike(self, one, other):
-        self.assertIs(False, one == other)
-        self.assertIs(False, other == one)
-        self.assertIs(True, one != other)
-        self.assertIs(True, other != one)
-
     def test_equal(self):
         self.check_equal(Lane("s", "a", "b"), Lane("s", "a", "b"))
         self.check_equal(Lane("s", "b", "a"), Lane("s", "b", "a"))

@@ -2,7 +2,7 @@
 
 import unittest
 
-from signtown import errors, streets
+from signtown import errors, signs, streets, towns, wards
 
 
 def package_objects():
@@ -11,6 +11,12 @@ def package_objects():
         streets.Lane("a", "b", "c"),
         streets.Avenue("a", "b", "c"),
         streets.Road("a", "b", "c", 1, 2),
+        wards.Ward("a"),
+        wards.Ward("b", "c"),
+        towns.Town(),
+        towns.Town(streets.Road("a", "b", "c", 1, 2)),
+        signs.Signs({}),
+        signs.Signs({"a": ("b", "c")}),
         errors.BadName("a"),
         errors.BadText(0, 1),
         errors.Barred(None),
@@ -67,6 +73,29 @@ def all_values():
     return no_names() + ["a", "b", "c", "z", "abcdefgh"]
 
 
+def values_but(*kinds):
+    """Values of all kinds but these classes."""
+    return [value for value in all_values() if not isinstance(value, kinds)]
+
+
+def shown(value):
+    """All that a street, a ward, a town, signs or a container of them tell, as plain values."""
+    if isinstance(value, streets.Street):
+        return [type(value).__name__, str(value)]
+    if isinstance(value, wards.Ward):
+        return ["Ward", value.corners, str(value), len(value), list(value)]
+    if isinstance(value, towns.Town):
+        return ["Town", value.names, value.corners, value.roads, value.is_plain, len(value),
+                [shown(street) for street in value]]
+    if isinstance(value, signs.Signs):
+        return ["Signs", value.names, value.parts, len(value), list(value)]
+    if isinstance(value, dict):
+        return ["dict", [(key, shown(value[key])) for key in value]]
+    if isinstance(value, (list, tuple)):
+        return [type(value).__name__, [shown(part) for part in value]]
+    return [type(value).__name__, value]
+
+
 class Case(unittest.TestCase):
     """A test case that can look at the class and the fields of an error."""
 
@@ -80,6 +109,33 @@ class Case(unittest.TestCase):
             found = getattr(caught.exception, name)
             self.assertIs(type(field), type(found))
             self.assertEqual(field, found)
+
+    def check_stays(self, kept, call, *values, **named):
+        """What the call returns; the kept values are behind it as they were."""
+        before = shown(kept)
+        found = call(*values, **named)
+        self.assertEqual(before, shown(kept))
+        return found
+
+    def check_refused(self, kept, error, fields, call, *values, **named):
+        """The call raises just this error, and changes none of the kept values."""
+        before = shown(kept)
+        self.check_raises(error, fields, call, *values, **named)
+        self.assertEqual(before, shown(kept))
+
+    def check_unlike(self, one, other):
+        """The values are unlike, whichever stands first."""
+        self.assertIs(False, one == other)
+        self.assertIs(False, other == one)
+        self.assertIs(True, one != other)
+        self.assertIs(True, other != one)
+
+    def check_equal(self, one, other):
+        """The values are equal, whichever stands first."""
+        self.assertIs(True, one == other)
+        self.assertIs(True, other == one)
+        self.assertIs(False, one != other)
+        self.assertIs(False, other != one)
 
     def check_same(self, wanted, found):
         """The values are equal and of one kind: True is not 1."""
