@@ -47,6 +47,64 @@ def star(many):
     return [Road(LETTERS[at], "a", LETTERS[at]) for at in range(1, many + 1)]
 
 
+def ring_of(many, kind=Road):
+    """So many streets of a kind round in a ring."""
+    ends = LETTERS[:many]
+    return Town(*[kind(LETTERS[at], ends[at], ends[(at + 1) % many]) for at in range(many)])
+
+
+def complete(many):
+    """A road between each two of so many corners, at prices of their own."""
+    pairs = list(itertools.combinations(LETTERS[:many], 2))
+    return Town(*[Road(LETTERS[at], *pair, 3 * at % 7, 5 * at % 11 - 4) for at, pair in enumerate(pairs)])
+
+
+def drawn_street(draw, name, corners, kinds, digits):
+    """A street of one of the kinds between two of the corners, its prices of so many digits."""
+    one, other = draw.sample(corners, 2)
+    kind = draw.choice(kinds)
+    if kind is Road:
+        most = 10 ** digits - 1
+        return Road(name, one, other, draw.randint(-most, most), draw.randint(-most, most))
+    return kind(name, one, other)
+
+
+def drawn_town(draw, corners, streets, kinds, digits=1):
+    """A town with just so many corners and streets, drawn by a random.Random."""
+    while True:
+        town = Town(*[drawn_street(draw, LETTERS[at], LETTERS[:corners], kinds, digits) for at in range(streets)])
+        if len(town.corners) == corners:
+            return town
+
+
+def drawn_rounds(draw, corners, rounds, kinds, digits=1):
+    """Some rounds through all corners one upon the other, so that there are good signs more often."""
+    streets = []
+    for _ in range(rounds):
+        tour = draw.sample(LETTERS[:corners], corners)
+        for one, other in zip(tour, tour[1:] + tour[:1]):
+            streets.append(drawn_street(draw, LETTERS[len(streets)], [one, other], kinds, digits))
+    return Town(*streets)
+
+
+def town_again(town):
+    """An equal town made in another order, of streets told the other way round."""
+    found = []
+    for street in town.streets[::-1]:
+        if isinstance(street, Road):
+            found.append(Road(street.name, street.other, street.one, street.back, street.there))
+        elif isinstance(street, Avenue):
+            found.append(Avenue(street.name, street.other, street.one))
+        else:
+            found.append(Lane(street.name, street.start, street.goal))
+    return Town(*found)
+
+
+def signs_again(signs):
+    """Equal signs made in another order."""
+    return Signs({name: signs.parts[name] for name in signs.names[::-1]})
+
+
 def directions(town, signs):
     """For each street the pairs (from, to) of corners along which it leads."""
     found = {}

@@ -30,6 +30,34 @@ NAMES = {
         "into": ["town", "signs", "ward"], "settled_into": ["town", "ward"], "within": ["town", "ward"],
         "in_counts": ["town", "signs"], "into_by_counts": ["town", "counts", "ward"],
     },
+    "ways": {
+        "is_walk": ["town", "signs", "start", "goal", "walk"], "bundle": ["town", "signs", "start", "goal"],
+        "Bundle": ["walks", "ward"], "Ways": ["root", "out", "back"], "ways_of": ["town", "signs", "need"],
+        "shows_bundle": ["town", "signs", "start", "goal", "value"], "shows_ways": ["town", "signs", "need", "value"],
+    },
+    "judge": {
+        "judge": ["town", "signs", "need"], "Verdict": None, "Sound": ["ways"], "Short": ["ward"],
+        "strength": ["town", "signs"], "Strength": ["number", "ward", "ways"],
+        "shows_verdict": ["town", "signs", "need", "value"], "shows_strength": ["town", "signs", "value"],
+    },
+    "narrow": {
+        "narrow_wards": ["town", "signs", "need"], "narrow_around": ["town", "signs", "need", "corner", "other"],
+        "turn_alone": ["town", "signs", "need", "name"], "Turning": None, "Turned": ["signs", "ways"], "Tied": ["ward"],
+    },
+    "weights": {"Weights": ["parts"]},
+    "best": {
+        "cheapest": ["town", "need"], "Answer": None, "Best": ["cost", "signs", "ways", "weights"],
+        "Never": ["weights"],
+    },
+    "lookers": {"Looker": ["town", "need"]},
+    "counts": {
+        "counted": ["town", "corner", "by"], "count_span": ["town", "need", "corner"], "signs_of": ["town", "counts"],
+        "CountSpan": ["least", "most", "low", "high"], "Counted": ["signs"], "Crowded": ["corners"],
+    },
+    "moves": {
+        "Turn": ["names", "start", "goal"], "exchange": ["town", "signs", "other", "need", "corner"],
+        "move": ["town", "signs", "need", "start", "goal"], "Moved": ["turn", "signs", "ways"], "Stuck": ["ward"],
+    },
 }
 
 STREET_METHODS = {
@@ -48,6 +76,15 @@ METHODS = {
     ("signs", "Signs"): {
         "tail": ["name"], "turned": ["names"], "fits": ["town"], "price": ["town"], "__call__": ["corner"],
     },
+    ("weights", "Weights"): {
+        "__call__": ["corner"], "onto": ["start", "goal"], "needs": ["town", "need"], "bound": ["town", "need"],
+        "excess": ["town", "need"], "is_clear": ["town"], "cleared": ["town"],
+    },
+    ("lookers", "Looker"): {
+        "__call__": ["answer"], "is_sound": ["signs", "ways"], "is_short": ["signs", "ward"],
+        "binds": ["weights", "price"], "bars": ["weights"],
+    },
+    ("moves", "Turn"): {"__call__": ["signs"], "stages": ["signs"]},
 }
 OPERATORS = {
     ("wards", "Ward"): ["len", "contains", "iter", "or", "and", "sub", "le", "lt", "eq", "str"],
@@ -57,16 +94,40 @@ OPERATORS = {
     ("signs", "Signs"): [
         "getitem", "contains", "len", "iter", "or", "and", "le", "sub", "invert", "call", "eq", "bool",
     ],
+    ("ways", "Bundle"): ["len", "eq"],
+    ("ways", "Ways"): ["eq"],
+    ("judge", "Verdict"): ["bool"],
+    ("judge", "Sound"): ["bool", "eq"],
+    ("judge", "Short"): ["bool", "eq"],
+    ("judge", "Strength"): ["eq"],
+    ("narrow", "Turning"): ["bool"],
+    ("narrow", "Turned"): ["bool", "eq"],
+    ("narrow", "Tied"): ["bool", "eq"],
+    ("weights", "Weights"): ["getitem", "contains", "len", "iter", "add", "mul", "rmul", "call", "eq", "bool"],
+    ("best", "Answer"): ["bool"],
+    ("best", "Best"): ["bool", "eq"],
+    ("best", "Never"): ["bool", "eq"],
+    ("lookers", "Looker"): ["call"],
+    ("counts", "CountSpan"): ["bool", "eq"],
+    ("counts", "Counted"): ["bool", "eq"],
+    ("counts", "Crowded"): ["bool", "eq"],
+    ("moves", "Turn"): ["len", "iter", "invert", "call", "eq"],
+    ("moves", "Moved"): ["bool", "eq"],
+    ("moves", "Stuck"): ["bool", "eq"],
 }
 PROPERTIES = {
     ("wards", "Ward"): ["corners"],
     ("towns", "Town"): ["streets", "names", "corners", "roads", "is_plain"],
     ("signs", "Signs"): ["names", "parts"],
+    ("weights", "Weights"): ["parts"],
+    ("counts", "Crowded"): ["corners"],
+    ("moves", "Turn"): ["names", "is_ring"],
 }
 # Of each class its static and class methods.
 MADE_BY = {
     ("wards", "Ward"): {"read": (classmethod, ["text"])},
     ("signs", "Signs"): {"cheap": (classmethod, ["town"]), "none": (staticmethod, [])},
+    ("weights", "Weights"): {"none": (staticmethod, []), "of": (staticmethod, ["ward", "number"])},
 }
 
 
@@ -135,9 +196,11 @@ class InterfaceTest(Case):
             self.assertIs(inspect.Parameter.KEYWORD_ONLY, made[name].kind)
             self.assertIsNone(made[name].default)
 
-    def test_default_prices(self):
-        made = inspect.signature(module_named("streets").Road).parameters
-        self.assertEqual([0, 0], [made["there"].default, made["back"].default])
+    def test_default_values(self):
+        for call, name, wanted in (
+                (module_named("streets").Road, "there", 0), (module_named("streets").Road, "back", 0),
+                (module_named("weights").Weights.of, "number", 1), (module_named("counts").counted, "by", 1)):
+            self.check_same(wanted, inspect.signature(call).parameters[name].default)
 
     def test_the_package_is_one_folder_of_plain_files(self):
         files = [name for name in os.listdir(FOLDER) if name != "__pycache__"]

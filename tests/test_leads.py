@@ -9,7 +9,8 @@ from signtown.signs import Signs
 from signtown.streets import Avenue, Lane, Road
 from signtown.towns import Town
 from signtown.wards import Ward
-from some_towns import all_signs, directions, mixed, some_towns, triangle
+from by_definition import leading_into
+from some_towns import all_signs, mixed, some_towns, triangle
 from values import Case, values_but
 
 RING = Signs({"r": ("a", "b"), "s": ("b", "c"), "t": ("c", "a")})
@@ -21,25 +22,19 @@ NO_SIGNS_OF_THE_TRIANGLE = [
 ]
 
 
-def leading_into(town, signs, ward):
-    """The names of the streets that lead from a corner outside to a corner inside."""
-    return [name for name, pairs in directions(town, signs).items()
-            if [goal for start, goal in pairs if start not in ward.corners and goal in ward.corners]]
-
-
 class CountedTest(Case):
     def test_into(self):
         for town in some_towns():
             for signs, ward in itertools.product(all_signs(town), list(town.wards())):
                 found = self.check_stays([town, signs, ward], into, town, signs, ward)
-                self.check_same(len(leading_into(town, signs, ward)), found)
+                self.check_same(len(leading_into(town, signs, ward.corners)), found)
         self.assertEqual(1, into(ward=Ward("b"), signs=RING, town=triangle()))
 
     def test_settled_into(self):
         for town in some_towns():
             for ward in town.wards():
                 found = self.check_stays([town, ward], settled_into, town, ward)
-                self.check_same(len(leading_into(town, None, ward)), found)
+                self.check_same(len(leading_into(town, None, ward.corners)), found)
         self.assertEqual(2, settled_into(ward=Ward("b"), town=triangle() | Lane("l", "a", "b") | Avenue("x", "b", "c")))
 
     def test_within(self):

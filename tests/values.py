@@ -2,12 +2,32 @@
 
 import unittest
 
-from signtown import errors, signs, streets, towns, wards
+from signtown import best, counts, errors, judge, lookers, moves, narrow, signs, streets, towns, wards, ways, weights
+
+
+def some_papers():
+    """Papers of all kinds: right ones for some town, and ones that are right nowhere."""
+    road, lead = streets.Road("a", "b", "c", 1, 2), signs.Signs({"a": ("b", "c")})
+    told = ways.Ways("b", {"c": (("a",),)}, {"c": (("x",),)})
+    return [
+        ways.Bundle((), wards.Ward("a")), ways.Bundle((("a",),), wards.Ward("c")), told, ways.Ways(None, None, None),
+        judge.Sound(told), judge.Sound(None), judge.Short(wards.Ward("a")), judge.Short("a"),
+        judge.Strength(0, wards.Ward("a"), None), judge.Strength(1, wards.Ward("a"), told),
+        narrow.Turned(lead, told), narrow.Tied(wards.Ward("a")),
+        best.Best(1, lead, told, weights.Weights({})), best.Best(None, None, None, None),
+        best.Never(weights.Weights({("a",): 1})), best.Never(road),
+        counts.CountSpan(0, 1, None, None), counts.Counted(lead), counts.Crowded(("a", "b")),
+        moves.Moved(moves.Turn(("a",), "b", "c"), lead, told), moves.Stuck(wards.Ward("a")),
+    ]
 
 
 def package_objects():
     """An object of each kind that the package has so far."""
-    return [
+    return some_papers() + [
+        weights.Weights({}),
+        weights.Weights({("a",): 1, ("b", "c"): 10 ** 59}),
+        moves.Turn(("a", "b"), "b", "c"),
+        lookers.Looker(towns.Town(streets.Lane("a", "b", "c")), 1),
         streets.Lane("a", "b", "c"),
         streets.Avenue("a", "b", "c"),
         streets.Road("a", "b", "c", 1, 2),
@@ -79,7 +99,7 @@ def values_but(*kinds):
 
 
 def shown(value):
-    """All that a street, a ward, a town, signs or a container of them tell, as plain values."""
+    """All that an object of the package or a container of some tells, as plain values."""
     if isinstance(value, streets.Street):
         return [type(value).__name__, str(value)]
     if isinstance(value, wards.Ward):
@@ -89,6 +109,10 @@ def shown(value):
                 [shown(street) for street in value]]
     if isinstance(value, signs.Signs):
         return ["Signs", value.names, value.parts, len(value), list(value)]
+    if isinstance(value, weights.Weights):
+        return ["Weights", value.parts, len(value), [str(ward) for ward in value]]
+    if type(value).__module__.startswith("signtown."):
+        return [type(value).__name__, shown(vars(value))]
     if isinstance(value, dict):
         return ["dict", [(key, shown(value[key])) for key in value]]
     if isinstance(value, (list, tuple)):
