@@ -4,13 +4,16 @@ import itertools
 import unittest
 
 from signtown.best import cheapest
+from signtown.choices import choice, sure_signs
 from signtown.counts import count_span
 from signtown.errors import BadNeed, BadSigns, BadTown, Empty
+from signtown.greatest import greatest, shows_greatest
 from signtown.judge import judge, shows_strength, shows_verdict, strength
 from signtown.lookers import Looker
 from signtown.moves import exchange, move
 from signtown.narrow import narrow_around, narrow_wards, turn_alone
 from signtown.signs import Signs
+from signtown.steps import fewest_turns, shows_steps, steps
 from signtown.streets import Lane
 from signtown.towns import Town
 from signtown.ways import bundle, is_walk, shows_bundle, shows_ways, ways_of
@@ -22,6 +25,10 @@ RING = Signs({"r": ("a", "b"), "s": ("b", "c"), "t": ("c", "a")})
 
 def all_narrow_wards(town, signs, need):
     return list(narrow_wards(town, signs, need))
+
+
+def first_of_steps(town, signs, other, need):
+    return next(steps(town, signs, other, need), None)
 
 
 # Of each function its first parameters in their order, then rows of further arguments, right and wrong ones.
@@ -43,8 +50,15 @@ FUNCTIONS = [
     (count_span, ("town", "need"), [("a",), ("z",), (None,)]),
     (exchange, ("town", "signs", "signs", "need"), [("a",), ("z",), (None,)]),
     (move, ("town", "signs", "need"), [("a", "b"), ("a", "a"), (None, "z")]),
+    (first_of_steps, ("town", "signs", "signs", "need"), [()]),
+    (fewest_turns, ("town", "signs", "signs"), [()]),
+    (shows_steps, ("town", "signs", "signs", "need"), [([],), (None,)]),
+    (choice, ("town", "need"), [("r",), ("z",), (None,)]),
+    (sure_signs, ("town", "need"), [()]),
+    (greatest, ("town",), [()]),
+    (shows_greatest, ("town",), [(None,)]),
 ]
-WITHOUT_EMPTY = (is_walk, bundle, shows_bundle)
+WITHOUT_EMPTY = (is_walk, bundle, shows_bundle, fewest_turns)
 RIGHT = {"town": [triangle()], "signs": [RING, ~RING], "need": [1, 20]}
 KINDS = {
     "town": [None, (), "town", Signs.none(), [triangle()], Lane("l", "a", "b")],

@@ -58,6 +58,17 @@ NAMES = {
         "Turn": ["names", "start", "goal"], "exchange": ["town", "signs", "other", "need", "corner"],
         "move": ["town", "signs", "need", "start", "goal"], "Moved": ["turn", "signs", "ways"], "Stuck": ["ward"],
     },
+    "steps": {
+        "steps": ["town", "signs", "other", "need"], "fewest_turns": ["town", "signs", "other"],
+        "shows_steps": ["town", "signs", "other", "need", "value"], "Step": ["turn", "signs"],
+    },
+    "choices": {
+        "choice": ["town", "need", "name"], "sure_signs": ["town", "need"], "Choice": ["name", "one", "other"],
+    },
+    "nearest": {"kept": ["town", "signs"], "nearest": ["town", "need", "signs"]},
+    "greatest": {
+        "greatest": ["town"], "shows_greatest": ["town", "value"], "Greatest": ["number", "best", "never"],
+    },
 }
 
 STREET_METHODS = {
@@ -85,6 +96,7 @@ METHODS = {
         "binds": ["weights", "price"], "bars": ["weights"],
     },
     ("moves", "Turn"): {"__call__": ["signs"], "stages": ["signs"]},
+    ("choices", "Choice"): {"price": ["town", "goal"], "gap": ["town"], "settles": ["town"]},
 }
 OPERATORS = {
     ("wards", "Ward"): ["len", "contains", "iter", "or", "and", "sub", "le", "lt", "eq", "str"],
@@ -114,6 +126,9 @@ OPERATORS = {
     ("moves", "Turn"): ["len", "iter", "invert", "call", "eq"],
     ("moves", "Moved"): ["bool", "eq"],
     ("moves", "Stuck"): ["bool", "eq"],
+    ("steps", "Step"): ["eq"],
+    ("choices", "Choice"): ["eq"],
+    ("greatest", "Greatest"): ["eq"],
 }
 PROPERTIES = {
     ("wards", "Ward"): ["corners"],

@@ -3,11 +3,14 @@
 import unittest
 
 from signtown.best import Answer, Best, Never
+from signtown.choices import Choice
 from signtown.counts import Counted, CountSpan, Crowded
+from signtown.greatest import Greatest
 from signtown.judge import Short, Sound, Strength, Verdict
 from signtown.moves import Moved, Stuck
 from signtown.narrow import Tied, Turned, Turning
 from signtown.signs import Signs
+from signtown.steps import Step
 from signtown.streets import Lane
 from signtown.wards import Ward
 from signtown.ways import Bundle, Ways
@@ -18,6 +21,7 @@ FIELDS = {
     Strength: ["number", "ward", "ways"], Turned: ["signs", "ways"], Tied: ["ward"],
     Best: ["cost", "signs", "ways", "weights"], Never: ["weights"], CountSpan: ["least", "most", "low", "high"],
     Counted: ["signs"], Crowded: ["corners"], Moved: ["turn", "signs", "ways"], Stuck: ["ward"],
+    Step: ["turn", "signs"], Choice: ["name", "one", "other"], Greatest: ["number", "best", "never"],
 }
 TRUE = [Sound, Turned, Best, CountSpan, Counted, Moved]
 FALSE = [Short, Tied, Never, Crowded, Stuck]

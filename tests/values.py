@@ -2,7 +2,9 @@
 
 import unittest
 
-from signtown import best, counts, errors, judge, lookers, moves, narrow, signs, streets, towns, wards, ways, weights
+from signtown import (
+    best, choices, counts, errors, greatest, judge, lookers, moves, narrow, signs, steps, streets, towns, wards, ways,
+    weights)
 
 
 def some_papers():
@@ -18,6 +20,9 @@ def some_papers():
         best.Never(weights.Weights({("a",): 1})), best.Never(road),
         counts.CountSpan(0, 1, None, None), counts.Counted(lead), counts.Crowded(("a", "b")),
         moves.Moved(moves.Turn(("a",), "b", "c"), lead, told), moves.Stuck(wards.Ward("a")),
+        steps.Step(moves.Turn(("a",), "b", "c"), lead), steps.Step(None, None),
+        choices.Choice("a", best.Never(weights.Weights({})), None),
+        greatest.Greatest(0, None, best.Never(weights.Weights({("a",): 1}))), greatest.Greatest(1, None, None),
     ]
 
 
