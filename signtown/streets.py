@@ -1,9 +1,9 @@
 """Streets: lanes lead one way, avenues lead both ways, roads are to get a sign."""
 
 from signtown.errors import BadPrice, BadStreet, BadText, NoCorner
+from signtown.figures import is_number_word
 from signtown.names import is_name, is_price
 
-DIGITS = "0123456789"
 PRICE_DIGITS = 12
 ROAD_WORDS = 6
 SETTLED_WORDS = 4
@@ -39,20 +39,11 @@ def far_end(ends, corner):
     return other if corner == one else one
 
 
-def is_price_word(word):
-    """Whether a word is a price as str writes it."""
-    digits = word.removeprefix("-")
-    if not 1 <= len(digits) <= PRICE_DIGITS or not all([digit in DIGITS for digit in digits]):
-        return False
-    # int takes words such as 01 and -0, too, which str never writes.
-    return str(int(word)) == word
-
-
 def can_stand(words, at):
     """Whether the word at this index from 1 on is right behind right words."""
     word = words[at]
     if at > 3:
-        return is_price_word(word)
+        return is_number_word(word, PRICE_DIGITS)
     if not is_name(word):
         return False
     if at == 3 and words[0] == "lane":

@@ -45,7 +45,7 @@ class AllExamplesTest(unittest.TestCase):
             self.assertEqual(wanted, told_or_raised(code, names), code)
 
     def test_there_are_all_of_them(self):
-        self.assertEqual(83, len(examples()))
+        self.assertEqual(116, len(examples()))
 
 
 if __name__ == "__main__":

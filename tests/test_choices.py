@@ -25,7 +25,8 @@ def small_towns():
     draw = random.Random(29)
     towns = [triangle(), mixed(), complete(4), THREE] + some_towns()[2:7]
     for _ in range(25):
-        towns.append(drawn_rounds(draw, *draw.choice([(2, 3), (3, 2), (4, 1)]), draw.choice(KINDS), draw.choice([0, 1])))
+        corners, rounds = draw.choice([(2, 3), (3, 2), (4, 1)])
+        towns.append(drawn_rounds(draw, corners, rounds, draw.choice(KINDS), draw.choice([0, 1])))
     for _ in range(20):
         corners = draw.choice([2, 3, 4])
         towns.append(drawn_town(draw, corners, 6, draw.choice(KINDS), draw.choice([0, 1, 12])))

@@ -88,8 +88,8 @@ class GreatestTest(Case):
                 self.check_greatest(town, min(settled_number(town, ward) for ward in wards_of(town)))
 
     def test_no_need_at_all(self):
-        for town in (Town(Road("r", "a", "b")), Town(Lane("l", "a", "b")), triangle() - "r", mixed() | Road("z", "e", "a"),
-                     Town(*many_streets(6)) | Avenue("y", "y", "z")):
+        for town in (Town(Road("r", "a", "b")), Town(Lane("l", "a", "b")), triangle() - "r",
+                     mixed() | Road("z", "e", "a"), Town(*many_streets(6)) | Avenue("y", "y", "z")):
             self.check_greatest(town, 0)
             self.assertIsNone(greatest(town).best)
 

@@ -69,6 +69,16 @@ NAMES = {
     "greatest": {
         "greatest": ["town"], "shows_greatest": ["town", "value"], "Greatest": ["number", "best", "never"],
     },
+    "works": {"Works": ["town", "need"]},
+    "texts": {
+        "town_text": ["town"], "signs_text": ["signs"], "weights_text": ["weights"], "ways_text": ["ways"],
+        "answer_text": ["answer"], "works_text": ["works"],
+    },
+    "reader": {
+        "read_town": ["text"], "read_signs": ["text"], "read_weights": ["text"], "read_ways": ["text"],
+        "read_answer": ["text"], "read_works": ["text"],
+    },
+    "desk": {"Desk": []},
 }
 
 STREET_METHODS = {
@@ -97,6 +107,12 @@ METHODS = {
     },
     ("moves", "Turn"): {"__call__": ["signs"], "stages": ["signs"]},
     ("choices", "Choice"): {"price": ["town", "goal"], "gap": ["town"], "settles": ["town"]},
+    ("works", "Works"): {
+        "set_need": ["need"], "put": ["street"], "shut": ["name"], "take": ["name"], "give": ["signs"],
+        "turn_about": ["walk"], "answer": [], "finished": [], "price": [], "fill": [], "judge": [], "undo": [],
+        "tried": [], "tried_by": ["work"], "attempt": ["work"], "twin": [],
+    },
+    ("desk", "Desk"): {"say": ["line"], "run": ["lines"], "works_now": [], "__call__": ["line"]},
 }
 OPERATORS = {
     ("wards", "Ward"): ["len", "contains", "iter", "or", "and", "sub", "le", "lt", "eq", "str"],
@@ -129,6 +145,8 @@ OPERATORS = {
     ("steps", "Step"): ["eq"],
     ("choices", "Choice"): ["eq"],
     ("greatest", "Greatest"): ["eq"],
+    ("works", "Works"): ["getitem", "setitem", "contains", "len", "iter", "ior", "ixor", "eq"],
+    ("desk", "Desk"): ["call", "len"],
 }
 PROPERTIES = {
     ("wards", "Ward"): ["corners"],
@@ -137,6 +155,7 @@ PROPERTIES = {
     ("weights", "Weights"): ["parts"],
     ("counts", "Crowded"): ["corners"],
     ("moves", "Turn"): ["names", "is_ring"],
+    ("works", "Works"): ["town", "given", "left", "need", "deeds"],
 }
 # Of each class its static and class methods.
 MADE_BY = {
@@ -211,10 +230,15 @@ class InterfaceTest(Case):
             self.assertIs(inspect.Parameter.KEYWORD_ONLY, made[name].kind)
             self.assertIsNone(made[name].default)
 
+    def test_the_need_alone_can_be_assigned(self):
+        for name in PROPERTIES["works", "Works"]:
+            self.assertIs(name == "need", vars(module_named("works").Works)[name].fset is not None)
+
     def test_default_values(self):
         for call, name, wanted in (
                 (module_named("streets").Road, "there", 0), (module_named("streets").Road, "back", 0),
-                (module_named("weights").Weights.of, "number", 1), (module_named("counts").counted, "by", 1)):
+                (module_named("weights").Weights.of, "number", 1), (module_named("counts").counted, "by", 1),
+                (module_named("works").Works, "need", 1)):
             self.check_same(wanted, inspect.signature(call).parameters[name].default)
 
     def test_the_package_is_one_folder_of_plain_files(self):

@@ -3,8 +3,8 @@
 import unittest
 
 from signtown import (
-    best, choices, counts, errors, greatest, judge, lookers, moves, narrow, signs, steps, streets, towns, wards, ways,
-    weights)
+    best, choices, counts, desk, errors, greatest, judge, lookers, moves, narrow, signs, steps, streets, towns, wards,
+    ways, weights, works)
 
 
 def some_papers():
@@ -27,12 +27,13 @@ def some_papers():
 
 
 def package_objects():
-    """An object of each kind that the package has so far."""
+    """An object of each kind that the package has."""
     return some_papers() + [
         weights.Weights({}),
         weights.Weights({("a",): 1, ("b", "c"): 10 ** 59}),
         moves.Turn(("a", "b"), "b", "c"),
         lookers.Looker(towns.Town(streets.Lane("a", "b", "c")), 1),
+        works.Works(towns.Town()), works.Works(towns.Town(streets.Road("a", "b", "c", 1, 2)), 2), desk.Desk(),
         streets.Lane("a", "b", "c"),
         streets.Avenue("a", "b", "c"),
         streets.Road("a", "b", "c", 1, 2),
