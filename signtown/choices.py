@@ -91,7 +91,6 @@ def signs_without(town, need, best, name):
 
 def sure_signs(town, need):
     """The Signs that all good signs of the least price have."""
-    check_asked(town, need)
     best = cheapest(town, need)
     if not best:
         raise NoSigns() from Barred(best.weights)

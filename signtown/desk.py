@@ -118,8 +118,9 @@ def tell_count(works, corner):
     if not span:
         return NONE
     # In the settled town the given signs are lanes, which do not count.
-    given = works.given(corner)
-    return f"{span.least + given} to {span.most + given}"
+    given = works.given
+    many = given(corner)
+    return f"{span.least + many} to {span.most + many}"
 
 
 def tell_greatest(works):
@@ -155,13 +156,14 @@ SHAPES = {
 def read_words(line):
     """The list of the words of a line that is not that of a street; raises BadText as a reader does."""
     words = Words([line])
-    told = [words.take(lambda word: word in SHAPES)]
-    for kind in SHAPES[told[0]]:
+    head = words.take(lambda word: word in SHAPES)
+    told = []
+    for kind in SHAPES[head]:
         told.append(words.take(is_need_word if kind == "need" else is_name))
-    while told[0] == "turn" and not words.is_line_read():
-        told.append(words.take(lambda word: is_name(word) and word not in told[3:]))
+    while head == "turn" and not words.is_line_read():
+        told.append(words.take(lambda word: is_name(word) and word not in told[2:]))
     words.end_line()
-    return told
+    return [head, *told]
 
 
 def read_line(line):

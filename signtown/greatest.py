@@ -22,18 +22,11 @@ class Greatest:
         return same(self.best, other.best) and same(self.never, other.never)
 
 
-def check_any_streets(town):
-    """The errors of a function of a town that must have streets."""
-    check_town(town)
-    check_streets(town)
-
-
 def greatest(town):
     """A Greatest of the town: its number is 0 and its best None if there are no good signs for the need 1."""
-    check_any_streets(town)
     number, best = 0, None
     answer = cheapest(town, 1)
-    # More streets than there are lead nowhere, so the needs end long before they are no needs any more.
+    # No more streets lead into a ward than there are, so this ends while the numbers are needs.
     while answer:
         number, best = number + 1, answer
         answer = cheapest(town, number + 1)
@@ -62,7 +55,8 @@ def is_never(town, number, value):
 
 def shows_greatest(town, value):
     """Whether any value is a Greatest that is right."""
-    check_any_streets(town)
+    check_town(town)
+    check_streets(town)
     if not isinstance(value, Greatest) or not is_integer(value.number):
         return False
     return is_best(town, value.number, value.best) and is_never(town, value.number + 1, value.never)

@@ -1,12 +1,11 @@
 """From good signs to any other good ones of a plain town by turned walks and rings, with good signs all the way."""
 
-from signtown.checks import check_signed
 from signtown.errors import NotAlong
 from signtown.goods import short_ward
 from signtown.leads import in_counts
 from signtown.moves import Turn, check_both, exchange
 from signtown.papers import same
-from signtown.signs import Signs, check_fitting
+from signtown.signs import Signs
 from signtown.ways import has_no_twice
 
 
@@ -23,8 +22,6 @@ class Step:
 
 def fewest_turns(town, signs, other):
     """Half the sum of the differences of in-counts: each turn that is no ring makes up for two of them at most."""
-    check_signed(town, signs)
-    check_fitting(town, other)
     now, wanted = in_counts(town, signs), in_counts(town, other)
     return sum([abs(now[corner] - wanted[corner]) for corner in town.corners]) // 2
 

@@ -1,13 +1,13 @@
 """Works: a town, a need and given signs that change, deed by deed, and can be taken back."""
 
 from signtown.best import cheapest
-from signtown.checks import check_need, check_streets
-from signtown.errors import BadSigns, BadTown, Barred, NoDeed, NoRoad, NoSign, NoSigns, NoStreet, Unlike
+from signtown.checks import check_need
+from signtown.errors import BadSigns, BadTown, Barred, NoDeed, NoRoad, NoSign, NoSigns, Unlike
 from signtown.judge import judge
 from signtown.kinds import check_town
 from signtown.moves import Turn
 from signtown.signs import Signs, check_signs, is_along
-from signtown.streets import Road, Street, check_end
+from signtown.streets import Road, Street
 from signtown.towns import Town
 
 
@@ -102,10 +102,8 @@ class Works:
     def __setitem__(self, name, goal):
         if name not in self.town.roads:
             raise NoRoad(name)
-        road = self.town[name]
-        check_end(road.ends, goal)
         parts = self.given.parts
-        parts[name] = (road.far(goal), goal)
+        parts[name] = (self.town[name].far(goal), goal)
         self.become("sign", self.town, Signs(parts), self.need)
 
     def __contains__(self, name):
@@ -128,10 +126,8 @@ class Works:
 
     def shut(self, name):
         """Takes a street out, with its given sign, and returns the street."""
-        if name not in self.town:
-            raise NoStreet(name)
-        given = self.given - name if name in self.given else self.given
         street = self.town[name]
+        given = self.given - name if name in self.given else self.given
         self.become("shut", self.town - name, given, self.need)
         return street
 
@@ -191,7 +187,6 @@ class Works:
 
     def judge(self):
         """Whether the given signs, which must be all, are good for the need."""
-        check_streets(self.town)
         left = self.left
         if left:
             raise NoSign(left[0])

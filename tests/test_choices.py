@@ -140,10 +140,11 @@ class ChoiceRefusedTest(Case):
                 self.check_raises(NoRoad, {"name": value}, Choice(value, None, None).gap, triangle())
 
     def test_no_end(self):
-        told = choice(triangle(), 1, "t")
+        told, never = choice(triangle(), 1, "t"), choice(triangle(), 2, "t")
         for value in all_values():
             if not isinstance(value, str) or value not in ("a", "c"):
                 self.check_refused([told, value], NoCorner, {"name": value}, told.price, triangle(), value)
+                self.check_raises(NoCorner, {"name": value}, never.price, triangle(), value)
 
     def test_equal_choices(self):
         told = choice(triangle(), 1, "t")

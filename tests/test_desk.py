@@ -250,16 +250,15 @@ class RefusedTest(Case):
 
 class RunTest(Case):
     def test_a_wrong_line_at_each_place(self):
-        lines = ["sign r b", "need 2", "undo", "undo", "undo", "undo", "lane l a b", "price", "turn a b r", "shut r"]
+        lines = ["sign r b", "need 2", "undo", "undo", "undo", "undo", "lane l a b", "price", "shut r"]
         for wrong, error, fields in (("plans", BadLine, {"word": 0}), (None, BadLine, {"word": 0}),
                                      ("sign zz a", NoRoad, {"name": "zz"}), ("shut zz", NoStreet, {"name": "zz"})):
-            for at in range(len(lines)):
-                if at < 8:
-                    desk = triangle_desk("sign t a")
-                    before = shown(desk)
-                    self.check_raises(error, fields, desk.run, *lines[:at], wrong, *lines[at:])
-                    self.assertEqual(before, shown(desk))
-                    self.assertEqual([4, "sign", "put"], [len(desk), desk("undo"), desk("undo")])
+            for at in range(len(lines) + 1):
+                desk = triangle_desk("sign t a")
+                before = shown(desk)
+                self.check_raises(error, fields, desk.run, *lines[:at], wrong, *lines[at:])
+                self.assertEqual(before, shown(desk))
+                self.assertEqual([4, "sign", "put"], [len(desk), desk("undo"), desk("undo")])
 
     def test_the_list_of_the_answers(self):
         desk, other = Desk(), Desk()
